@@ -1,0 +1,30 @@
+"""The interface: where each function stands, and what its arguments are called."""
+
+import importlib
+import inspect
+import unittest
+
+TOLD = {
+    "tables": ["is_whole(thing)", "is_among(thing, least, most)", "is_table(thing)", "need_table(thing)", "seats(table)",
+               "stands(table)", "is_stand(table, thing)", "is_turning(table, thing)", "need_stand(table, thing)",
+               "need_turning(table, thing)", "need_row(table, row)", "turned(turning, stand)",
+               "added(table, stand, other)", "less(table, stand, other)", "opposite(table, stand)", "nought(table)",
+               "walked(table, run, row)"],
+    "turnings": ["are_turnings(thing)", "then(first, later)", "back(turning)", "often(turning, count)",
+                 "rounds(turning)", "how_often(turning)"],
+}
+
+
+class Interface(unittest.TestCase):
+    def test_functions(self):
+        for file, told in TOLD.items():
+            module = importlib.import_module("unseenturn." + file)
+            for line in told:
+                with self.subTest(file=file, line=line):
+                    function = getattr(module, line.partition("(")[0])
+                    self.assertEqual(function.__name__ + str(inspect.signature(function)), line)
+                    self.assertEqual(function.__module__, module.__name__)
+
+
+if __name__ == "__main__":
+    unittest.main()

@@ -1,0 +1,1 @@
+"""Unseenturn: tables that an unseen hand turns."""
