@@ -3,6 +3,8 @@
 import itertools
 import unittest
 
+from unseenturn.errors import BadTable
+
 CALM_ONE = (2, ((0,),))
 SWAP = (3, ((0, 1), (1, 0)))
 TURN_THREE = (2, ((0, 1, 2), (1, 2, 0), (2, 0, 1)))
@@ -41,6 +43,18 @@ def small_lots_of_turnings():
     return list(found)
 
 
+# What are no TURNINGS by themselves, and the place that is due.
+NO_TURNINGS = [(thing, "turnings") for thing in ODD_THINGS] + [
+    ((), "turnings"), ([(0,)], "turnings"), ((0, 1), "turnings"), (((0, 0),), "turnings"), (((0, True),), "turnings"),
+    (((1, 0), (0, 1)), "turnings"), (((0, 1), (0, 1)), "turnings"), (((0,), (0, 1)), "turnings"),
+    ((tuple(range(9)),), "turnings"), (all_orders(6), "turnings"), (((1, 0),), "closed"),
+    (((0, 1, 2), (1, 2, 0)), "closed"), (all_orders(6)[:128], "closed"), (eight_by_halves()[1:], "closed")]
+
+# What is no number of seats, and what is none of three seats.
+NO_SEATS = [0, 9, -1, 10 ** 30, None, True, False, "3", 3.0, (3,), [3], {}]
+NO_SEAT_OF_THREE = [3, -1, 10 ** 30, None, True, False, "1", 1.0, (1,), [1], {}]
+
+
 class Case(unittest.TestCase):
     def refused(self, error, value, call, *args, **more):
         """The call is refused with just that error, and that value in its one field."""
@@ -53,6 +67,11 @@ class Case(unittest.TestCase):
     def field_of(self, error):
         return {"BadTable": "place", "BadRun": "place", "BadPaper": "place", "BadHearing": "step",
                 "Inside": "step"}.get(error.__name__, "number")
+
+    def refuses_no_turnings(self, call, *args):
+        """The call is refused wherever its first argument are no TURNINGS, whatever stands behind it."""
+        for thing, place in NO_TURNINGS:
+            self.refused(BadTable, place, call, thing, *args)
 
     def barred(self, error, call, *args, **more):
         """The call is refused with just that error, which is made of a text."""

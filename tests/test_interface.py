@@ -12,6 +12,14 @@ TOLD = {
                "walked(table, run, row)"],
     "turnings": ["are_turnings(thing)", "then(first, later)", "back(turning)", "often(turning, count)",
                  "rounds(turning)", "how_often(turning)"],
+    "making": ["made(seats, turnings)", "ring(seats)", "mirrored(seats)", "side_by_side(first, later)",
+               "nested(inner, outer)"],
+    "company": ["together(turnings)", "bringing(turnings, seat, goal)", "still(turnings, seat)",
+                "are_part(turnings, thing)", "shares(turnings, part)", "many_orbits(faces, turnings)"],
+    "blocks": ["is_parting(seats, thing)", "is_kept(turnings, thing)", "kept_with(turnings, seat, goal)",
+               "joined_of(seats, first, later)", "all_kept(turnings)", "among(turnings, parting)",
+               "within(turnings, parting)"],
+    "renaming": ["renamed(turnings, names)", "renaming(first, later)", "many_names(turnings)"],
 }
 
 

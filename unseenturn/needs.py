@@ -1,8 +1,8 @@
 """How TURNINGS by themselves, and what is told beside them, are refused, of anything."""
 
-from unseenturn.errors import BadTable, BadTurning, OutOfPlace
+from unseenturn.errors import BadTable, BadTurning, OutOfPlace, TooGreat
 from unseenturn.tables import (
-    MOST_FACES, MOST_SEATS, are_closed, are_rising_orders, is_among, is_tuple_of, is_whole, wrong_seat)
+    MOST_FACES, MOST_SEATS, MOST_TURNINGS, are_closed, are_rising_orders, is_among, is_tuple_of, is_whole, wrong_seat)
 
 
 def need_seats(thing):
@@ -54,3 +54,15 @@ def need_whole(thing):
     """None, or OutOfPlace of what is no whole number."""
     if not is_whole(thing):
         raise OutOfPlace("no whole number")
+
+
+def need_few_turnings(many):
+    """None, or TooGreat where there would be so many TURNINGS."""
+    if many > MOST_TURNINGS:
+        raise TooGreat("too many turnings")
+
+
+def need_few_seats(many, most):
+    """None, or TooGreat of so many seats where there may be most."""
+    if many > most:
+        raise TooGreat("too many seats")

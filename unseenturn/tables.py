@@ -47,7 +47,7 @@ def spread_by(many, makers, most):
 
 
 def grown_by(many, turnings, most):
-    """A list of all that is done by these TURNINGS of so many seats, broken off behind more than most."""
+    """A pair of lists: few of these TURNINGS, and all that they make, broken off behind more than most."""
     found = [calm_of(many)]
     makers = []
     for turning in turnings:
@@ -55,7 +55,7 @@ def grown_by(many, turnings, most):
         if len(found) <= most and turning not in found:
             makers.append(turning)
             found = spread_by(many, makers, most)
-    return found
+    return makers, found
 
 
 def plus(faces, stand, other):
@@ -114,7 +114,8 @@ def are_rising_orders(thing):
 
 def are_closed(turnings):
     """Whether good TURNINGS have with any two the one behind the other."""
-    return len(grown_by(len(turnings[0]), turnings, len(turnings))) == len(turnings)
+    _, found = grown_by(len(turnings[0]), turnings, len(turnings))
+    return len(found) == len(turnings)
 
 
 def need_table(thing):
