@@ -43,6 +43,62 @@ def small_lots_of_turnings():
     return list(found)
 
 
+# Tables of few stands, and others that a slow reckoning can still look through.
+SMALL_TABLES = [
+    (2, ((0,),)), (5, ((0,),)), (4, ((0, 1),)), SWAP, (4, ((0, 1), (1, 0))), TURN_THREE, (3, TURN_THREE[1]),
+    (2, all_orders(3)), (2, closure([(1, 2, 3, 0)], 4)), (2, closure([(1, 2, 3, 0), (3, 2, 1, 0)], 4)),
+    (2, closure([(1, 0, 3, 2)], 4)), (2, ((0, 1, 2, 3),)), (2, all_orders(4)), (2, closure([(1, 2, 0, 4, 3)], 5))]
+
+
+def slow_turned(turning, stand):
+    found = {goal: stand[seat] for seat, goal in enumerate(turning)}
+    return tuple(found[seat] for seat in range(len(stand)))
+
+
+def slow_stands(table):
+    return list(itertools.product(range(table[0]), repeat=len(table[1][0])))
+
+
+def slow_plus(table, stand, other):
+    return tuple((one + more) % table[0] for one, more in zip(stand, other))
+
+
+def slow_minus(table, stand, other):
+    return tuple((one - more) % table[0] for one, more in zip(stand, other))
+
+
+def slow_orbit(table, stand):
+    return {slow_turned(turning, stand) for turning in table[1]}
+
+
+def slow_least(table, stand):
+    return min(slow_orbit(table, stand))
+
+
+def slow_orbits(table):
+    return sorted({slow_least(table, stand) for stand in slow_stands(table)})
+
+
+def slow_wished(table, wish):
+    return {stand for least in wish for stand in slow_orbit(table, least)}
+
+
+def slow_free(table, wish):
+    return [orbit for orbit in slow_orbits(table) if orbit not in wish]
+
+
+def slow_behind(table, wish, lot, deed):
+    """What stands behind a deed, by all stands of a lot and all turnings."""
+    found = {slow_least(table, slow_plus(table, slow_turned(turning, stand), deed))
+             for stand in slow_wished(table, lot) for turning in table[1]}
+    return tuple(sorted(found - set(wish)))
+
+
+def tuples_of(things, most):
+    """All rising tuples of none to most of the things."""
+    return [told for many in range(most + 1) for told in itertools.combinations(sorted(things), many)]
+
+
 # What are no TURNINGS by themselves, and the place that is due.
 NO_TURNINGS = [(thing, "turnings") for thing in ODD_THINGS] + [
     ((), "turnings"), ([(0,)], "turnings"), ((0, 1), "turnings"), (((0, 0),), "turnings"), (((0, True),), "turnings"),

@@ -20,6 +20,19 @@ TOLD = {
                "joined_of(seats, first, later)", "all_kept(turnings)", "among(turnings, parting)",
                "within(turnings, parting)"],
     "renaming": ["renamed(turnings, names)", "renaming(first, later)", "many_names(turnings)"],
+    "orbits": ["least_of(table, stand)", "orbit_of(table, stand)", "keeping(table, stand)", "ways(table, stand, deed)",
+               "orbits(table)"],
+    "wishes": ["is_wish(table, thing)", "need_wish(table, wish)", "noughts(table)", "alike(table)",
+               "wish_by(table, stands)", "even_by(table, stands)", "wished(table, wish)",
+               "is_wished(table, wish, stand)", "is_even(table, wish)"],
+    "lots": ["need_lot(table, wish, lot)", "whole_lot(table, wish)", "behind(table, wish, lot, deed)",
+             "kinds_of_deeds(table, wish)"],
+    "rows": ["sorts(table, *, lets=None)", "lots_of(table, wish, row, *, lot=None)",
+             "is_sure(table, wish, row, *, lot=None)", "latest(table, wish, row, *, lot=None)",
+             "escape(table, wish, row, *, lot=None)", "is_escape(table, wish, row, thing, *, lot=None)",
+             "told_back(table, row)", "escape_back(table, wish, row, thing)",
+             "fewest(table, wish, *, lets=None, lot=None)", "least_row(table, wish, *, lets=None, lot=None)",
+             "count_least(table, wish, *, lets=None, lot=None)"],
 }
 
 
