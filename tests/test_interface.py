@@ -33,6 +33,14 @@ TOLD = {
              "told_back(table, row)", "escape_back(table, wish, row, thing)",
              "fewest(table, wish, *, lets=None, lot=None)", "least_row(table, wish, *, lets=None, lot=None)",
              "count_least(table, wish, *, lets=None, lot=None)"],
+    "papers": ["fall(table, wish, row, *, lot=None)", "check_fall(table, wish, row, paper, *, lot=None)",
+               "layers(table, wish, many, *, lets=None, lot=None)",
+               "check_layers(table, wish, paper, *, lets=None, lot=None)",
+               "family(table, wish, *, lets=None, lot=None)", "check_family(table, wish, paper, *, lets=None, lot=None)"],
+    "stairs": ["heart(table, wish)", "steps(table, wish)", "step_of(table, wish, stand)", "can_be_sure(table, wish, lot)",
+               "by_prime(table)"],
+    "built": ["built_row(table, wish)", "missed(table, wish, row)", "keeping_out(table, wish, stand, deed)",
+              "lost(table, wish, row, stand)"],
 }
 
 

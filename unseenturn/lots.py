@@ -36,9 +36,13 @@ class Board:
             self.found[(orbit, least)] = goals
         return self.found[(orbit, least)]
 
+    def goals(self, lot, deed):
+        """The LOT that stands BEHIND the DEED, a dict of True."""
+        return {goal: True for orbit in lot for goal in self.left_of(orbit, deed)}
+
     def left(self, lot, deed):
         """The LOT that stands BEHIND the DEED."""
-        return tuple(sorted({goal for orbit in lot for goal in self.left_of(orbit, deed)}))
+        return tuple(sorted(self.goals(lot, deed)))
 
     def mask(self, lot):
         """A whole number that has a bit for each ORBIT of the LOT."""
@@ -78,7 +82,8 @@ def is_lot_of(table, wish, thing):
 
 def is_within(lot, other):
     """Whether a LOT has no ORBIT that another one hasn't."""
-    return all(orbit in other for orbit in lot)
+    among = {orbit: True for orbit in other}
+    return all(orbit in among for orbit in lot)
 
 
 def need_few_orbits(board):
