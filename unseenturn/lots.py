@@ -18,7 +18,7 @@ class Board:
         self.orbits = {}
         for stand in stands_of(table):
             self.orbits.setdefault(self.leasts[stand], []).append(stand)
-        barred = set(wish)
+        barred = {orbit: True for orbit in wish}
         self.whole = tuple([orbit for orbit in self.orbits if orbit not in barred])
         self.numbers = {orbit: number for number, orbit in enumerate(self.whole)}
         self.found = {}
