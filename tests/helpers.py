@@ -94,9 +94,54 @@ def slow_behind(table, wish, lot, deed):
     return tuple(sorted(found - set(wish)))
 
 
+def slow_patterns(table, hands):
+    return list(itertools.combinations(range(len(table[1][0])), hands))
+
+
+def slow_faces(table, many):
+    return list(itertools.product(range(table[0]), repeat=many))
+
+
+def slow_shapes(table, hands):
+    return sorted({min(tuple(sorted(turning[seat] for seat in pattern)) for turning in table[1])
+                   for pattern in slow_patterns(table, hands)})
+
+
+def slow_felts(table, lot, pattern):
+    return sorted({tuple(stand[seat] for seat in pattern) for stand in slow_wished(table, lot)})
+
+
+def slow_left(table, wish, lot, pattern, felt, setting):
+    """What is left by a felt and a setting, by all stands of a lot."""
+    found = set()
+    for stand in slow_wished(table, lot):
+        if tuple(stand[seat] for seat in pattern) == felt:
+            put = dict(zip(pattern, setting))
+            found.add(slow_least(table, tuple(put.get(seat, face) for seat, face in enumerate(stand))))
+    return tuple(sorted(found - set(wish)))
+
+
+def slow_depths(table, wish, hands):
+    """A dict from each lot to its depth or None, by all that so many hands can do, whatever is felt."""
+    lots = tuples_of(slow_free(table, wish), 99)
+    lefts = {lot: [[[slow_left(table, wish, lot, pattern, felt, setting) for setting in slow_faces(table, hands)]
+                    for felt in slow_felts(table, lot, pattern)] for pattern in slow_patterns(table, hands)] for lot in lots}
+    found = {(): 0}
+    rank = 0
+    while True:
+        rank += 1
+        more = [lot for lot in lots if lot not in found
+                and any(all(any(left in found for left in answer) for answer in choice) for choice in lefts[lot])]
+        if not more:
+            return {lot: found.get(lot) for lot in lots}
+        for lot in more:
+            found[lot] = rank
+
+
 def tuples_of(things, most):
     """All rising tuples of none to most of the things."""
-    return [told for many in range(most + 1) for told in itertools.combinations(sorted(things), many)]
+    return [told for many in range(min(most, len(things)) + 1)
+            for told in itertools.combinations(sorted(things), many)]
 
 
 # What are no TURNINGS by themselves, and the place that is due.

@@ -41,6 +41,15 @@ TOLD = {
                "by_prime(table)"],
     "built": ["built_row(table, wish)", "missed(table, wish, row)", "keeping_out(table, wish, stand, deed)",
               "lost(table, wish, row, stand)"],
+    "toppapers": ["top_paper(table, wish)", "check_top(table, wish, paper)"],
+    "feeling": ["need_pattern(table, pattern)", "need_hands(table, hands)", "pattern_turned(turning, pattern)",
+                "shape_of(table, pattern)", "shapes(table, hands)", "felts(table, wish, lot, pattern)",
+                "left_by(table, wish, lot, pattern, felt, setting)"],
+    "plans": ["check_plan(table, wish, hands, plan)", "depth_by(table, wish, hands, plan, lot)",
+              "depth(table, wish, hands, lot)", "plan_of(table, wish, hands, lot)", "depths(table, wish, hands)",
+              "hands_needed(table, wish, lot)"],
+    "bands": ["check_band(table, wish, hands, band)", "is_lost_by(table, wish, hands, band, lot)",
+              "band_of(table, wish, hands)"],
 }
 
 

@@ -57,7 +57,7 @@ class Board:
         return [self.mask(self.left_of(orbit, deed)) for orbit in self.whole]
 
 
-def left_by(masks, mask):
+def masked_by(masks, mask):
     """What a DEED with such masks leaves of a LOT, both told by masks."""
     found = 0
     for number, left in enumerate(masks):

@@ -1,7 +1,7 @@
 """Papers by which small lookers see that a ROW is SURE, that no short one is, and that none is."""
 
 from unseenturn.errors import BadPaper, BadRow, NotSure
-from unseenturn.lots import Board, is_lot_of, is_within, left_by, need_few_orbits
+from unseenturn.lots import Board, is_lot_of, is_within, masked_by, need_few_orbits
 from unseenturn.rows import lot_by, lots_by, need_lets, need_row_by, need_search, need_told_lot, weights_of
 from unseenturn.tables import is_among, is_tuple_of, is_whole
 from unseenturn.wishes import need_wish
@@ -31,7 +31,7 @@ def lines_by(board, steps, masks, goals):
     for mask in masks:
         numbers = []
         for step in steps:
-            left = left_by(step, mask)
+            left = masked_by(step, mask)
             numbers.append([number for number, goal in enumerate(goals) if goal & left == goal][0])
         found.append((board.unmasked(mask), tuple(numbers)))
     return tuple(found)
@@ -42,7 +42,7 @@ def levels_by(steps, start, many):
     found = [[start]]
     for _ in range(many):
         # Where there is no step nothing has to come next, but each layer has a LINE.
-        left = sorted({left_by(step, mask) for mask in found[-1] for step in steps})
+        left = sorted({masked_by(step, mask) for mask in found[-1] for step in steps})
         found.append(least_masks(left) if steps else [start])
     return [] if any(0 in level for level in found) else found
 
@@ -54,7 +54,7 @@ def reached_by(steps, start):
     at = 0
     while at < len(found):
         for step in steps:
-            left = left_by(step, found[at])
+            left = masked_by(step, found[at])
             if left not in seen:
                 seen.add(left)
                 found.append(left)

@@ -1,7 +1,7 @@
 """Blind ROWS: which of them are SURE, how the unseen hand escapes the others, and the shortest SURE ones."""
 
 from unseenturn.errors import BadRun, BadStand, Never, NotSure
-from unseenturn.lots import Board, left_by, need_few_orbits, need_lot_of
+from unseenturn.lots import Board, masked_by, need_few_orbits, need_lot_of
 from unseenturn.orbits import leasts_of
 from unseenturn.tables import (
     calm_of, is_stand_of, minus, need_row, need_run, need_table, plus, seats_of, stands_of, turned, walked)
@@ -109,7 +109,7 @@ def shortest_of(board, lets, lot):
         # A level's ROWS rise, and so do the DEEDS: the first ROW that comes to a LOT is the least one.
         for mask, (row, count) in level.items():
             for deed, many, masks in steps:
-                left = left_by(masks, mask)
+                left = masked_by(masks, mask)
                 if left not in seen:
                     first, ways = later.get(left, (row + (deed,), 0))
                     later[left] = (first, ways + many * count)
