@@ -121,6 +121,59 @@ def slow_left(table, wish, lot, pattern, felt, setting):
     return tuple(sorted(found - set(wish)))
 
 
+def slow_step(table, wish, step, stand):
+    """The stand behind a step that is done to a turned one, and whether all is as it was heard."""
+    if step[0] == "blind":
+        later = slow_plus(table, stand, step[1])
+        felt = True
+    else:
+        put = dict(zip(step[1], step[3]))
+        later = tuple(put.get(seat, face) for seat, face in enumerate(stand))
+        felt = tuple(stand[seat] for seat in step[1]) == step[2]
+    return later, felt and (later in slow_wished(table, wish)) is step[-1]
+
+
+def slow_runs(table, wish, hearing):
+    """A dict from each run of a hearing that fits to its stands behind no step, one, .. all."""
+    begins = [stand for stand in slow_stands(table) if stand not in slow_wished(table, wish)]
+    found = {(stand, ()): (stand,) for stand in begins}
+    for step in hearing:
+        more = {}
+        for (stand, turns), stands in found.items():
+            for turning in table[1]:
+                later, so = slow_step(table, wish, step, slow_turned(turning, stands[-1]))
+                if so:
+                    more[(stand, turns + (turning,))] = stands + (later,)
+        found = more
+    return found
+
+
+def random_step(chance, table, bell):
+    if chance.random() < 0.5:
+        return "blind", chance.choice(slow_stands(table)), bell
+    hands = chance.randint(1, len(table[1][0]))
+    faces = slow_faces(table, hands)
+    return "felt", chance.choice(slow_patterns(table, hands)), chance.choice(faces), chance.choice(faces), bell
+
+
+def random_hearing(chance, table, wish, many):
+    """A hearing of so many steps at most, of which most fit one run; it ends where the bell rings."""
+    free = [stand for stand in slow_stands(table) if stand not in slow_wished(table, wish)]
+    stand = chance.choice(free or slow_stands(table))
+    found = []
+    for number in range(many):
+        turned = slow_turned(chance.choice(table[1]), stand)
+        step = random_step(chance, table, False)
+        if step[0] == "felt" and chance.random() < 0.85:
+            step = step[:2] + (tuple(turned[seat] for seat in step[1]),) + step[3:]
+        stand = slow_step(table, wish, step, turned)[0]
+        rings = stand in slow_wished(table, wish)
+        if rings and chance.random() < 0.6 or number == many - 1 and chance.random() < 0.1:
+            return tuple(found) + (step[:-1] + (True,),)
+        found.append(step)
+    return tuple(found)
+
+
 def slow_depths(table, wish, hands):
     """A dict from each lot to its depth or None, by all that so many hands can do, whatever is felt."""
     lots = tuples_of(slow_free(table, wish), 99)

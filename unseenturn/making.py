@@ -40,15 +40,20 @@ def mirrored(seats):
     return tuple(sorted(set(shifts_of(seats) + flips_of(seats))))
 
 
-def side_by_side(first, later):
-    """Both SIDE BY SIDE, the later one's seats behind the first one's."""
-    need_turnings(first)
-    need_turnings(later)
+def set_beside(first, later):
+    """Both good TURNINGS SIDE BY SIDE, or TooGreat."""
     ahead = len(first[0])
     need_few_seats(ahead + len(later[0]), MOST_SEATS)
     need_few_turnings(len(first) * len(later))
     moved = [tuple([ahead + seat for seat in turning]) for turning in later]
     return tuple([turning + other for turning in first for other in moved])
+
+
+def side_by_side(first, later):
+    """Both SIDE BY SIDE, the later one's seats behind the first one's."""
+    need_turnings(first)
+    need_turnings(later)
+    return set_beside(first, later)
 
 
 def choices_of(things, many):

@@ -9,8 +9,8 @@ from unseenturn.wishes import need_wish
 
 MOST_FREE = 8
 MOST_CHOICES = 4096
-# More than any DEPTH: a LOT has a greater one than those that it leads to, and there are 256 LOTS at most.
-ENDLESS = 1000
+# More than any LOT needs: what is left needs less and less, so no LOT comes twice, and there aren't so many.
+ENDLESS = 1 << 20
 
 
 class Answer:
@@ -51,6 +51,12 @@ class Choosings:
                     if mask not in self.depths and self.shape_by(mask, rank - 1) is not None]
             for mask in more:
                 self.depths[mask] = rank
+
+    def answers_at(self, pattern):
+        """A list of the ANSWERS at any PATTERN of so many seats."""
+        if pattern in self.answers:
+            return self.answers[pattern]
+        return answers_by(self.board, pattern, self.settings)
 
     def depth_at(self, mask):
         """A LOT's DEPTH, ENDLESS without one."""
