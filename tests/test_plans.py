@@ -239,6 +239,8 @@ class Places(PlanCase):
         worse = ((PAIR,), 1) + ROW_PAIR[2:]
         self.bad(0, (worse, ROW_ACROSS))
         self.bad(1, (worse, ROW_ACROSS[:3] + (wrong[0],)))
+        self.bad(1, (worse, ((ACROSS,), 0) + ROW_ACROSS[2:]))
+        self.bad(1, (worse, ((ACROSS,), -3) + ROW_ACROSS[2:]))
 
     def test_too_much_left(self):
         self.bad(0, (ROW_PAIR,))

@@ -168,6 +168,7 @@ class Papers(Case):
         self.refused(BadPaper, 1, check_top, TURN_THREE, wish, (ups, (((0, 0, True), 1),) + outs[1:]))
         self.refused(BadPaper, 1, check_top, TURN_THREE, wish, (ups, (list(outs[0]),) + outs[1:]))
         self.refused(BadPaper, 1, check_top, TURN_THREE, wish, (ups, (outs[0] + (1,),) + outs[1:]))
+        self.refused(BadPaper, 2, check_top, TURN_THREE, wish, (ups, (outs[0], outs[1][:1], outs[2])))
 
     def test_by_names(self):
         self.assertEqual(top_paper(wish=noughts(CALM_ONE), table=CALM_ONE), (((1,),), ()))

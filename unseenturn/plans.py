@@ -164,10 +164,12 @@ def need_plan(board, wish, hands, plan):
             raise BadPaper(number)
         ahead = row[0]
     served = [(rank, board.mask(lot)) for lot, rank, _, _ in plan]
+    least = {0: 0}
     for number, row in enumerate(plan):
-        lower = [mask for rank, mask in served if rank < row[1]]
         for left in lefts_of(board, row):
-            if left > 0 and not any(left & mask == left for mask in lower):
+            if left not in least:
+                least[left] = min([rank for rank, mask in served if left & mask == left], default=row[1])
+            if least[left] >= row[1]:
                 raise BadPaper(number)
 
 
